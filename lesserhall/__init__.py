@@ -1,0 +1,1 @@
+"""Lesserhall: each shows how many lesser ones it sees."""
