@@ -11,6 +11,16 @@ def is_person(many, thing):
     return is_number(thing) and thing < many
 
 
+def are_persons(many, thing):
+    """Whether a thing is a rising tuple of persons of so many."""
+    return isinstance(thing, tuple) and all([is_person(many, one) for one in thing]) and rises(thing)
+
+
 def rises(things):
     """Whether each of the things is less than the one behind it."""
     return all([one < other for one, other in zip(things, things[1:])])
+
+
+def unlike(things):
+    """Whether none of the things, numbers or texts, is there twice."""
+    return len(set(things)) == len(things)

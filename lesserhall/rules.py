@@ -1,6 +1,6 @@
 """Rules: what a person shows of the lot of those it sees who show less."""
 
-from lesserhall.plain import is_number, is_person, rises
+from lesserhall.plain import are_persons, is_number, is_person, rises
 
 PARTS = {
     "held": ("number",),
@@ -31,12 +31,7 @@ def is_part(many, part, thing):
         return is_number(thing)
     if part == "ties":
         return are_ties(many, thing)
-    return are_seen(many, thing)
-
-
-def are_seen(many, thing):
-    """Whether a thing is a rising tuple of persons of so many."""
-    return isinstance(thing, tuple) and all([is_person(many, one) for one in thing]) and rises(thing)
+    return are_persons(many, thing)
 
 
 def are_ties(many, thing):

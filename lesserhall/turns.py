@@ -3,15 +3,24 @@
 from lesserhall.rules import told_of
 
 
+def lot_below(hall, standing, person, bound):
+    """The lot of those that person sees who show less than the bound."""
+    return [(other, standing[other]) for other in hall.sees(person) if standing[other] < bound]
+
+
 def lot_of(hall, standing, person):
     """The lot of those that person sees who show less than it does itself."""
-    own = standing[person]
-    return [(other, standing[other]) for other in hall.sees(person) if standing[other] < own]
+    return lot_below(hall, standing, person, standing[person])
+
+
+def told_below(hall, standing, person, bound):
+    """The number that person's rule tells of those it sees who show less than the bound."""
+    return told_of(hall.rule(person), lot_below(hall, standing, person, bound))
 
 
 def told_at(hall, standing, person):
     """The number that person would show behind a turn."""
-    return told_of(hall.rule(person), lot_of(hall, standing, person))
+    return told_below(hall, standing, person, standing[person])
 
 
 def turned(hall, standing, persons):

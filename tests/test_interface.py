@@ -1,0 +1,49 @@
+"""The interface: each name stands in its own file, with the arguments that the document writes."""
+
+import ast
+import importlib
+import inspect
+import pathlib
+import unittest
+
+FOLDER = pathlib.Path(__file__).resolve().parent.parent / "lesserhall"
+FUNCTIONS = {
+    "rules": {"is_rule": "many thing", "seen_by": "rule", "told_of": "rule lot", "most_of": "rule"},
+    "halls": {"is_standing": "hall thing"},
+    "turns": {"lot_of": "hall standing person", "turned": "hall standing persons", "restless": "hall standing",
+              "is_rest": "hall standing"},
+    "beats": {"history": "hall standing many", "rest_by_beats": "hall standing"},
+    "orders": {"rest_by": "hall standing order", "rest_by_lots": "hall standing lots"},
+    "levels": {"tower_of": "standing", "is_sound": "hall thing", "next_levels": "hall tower", "plain_rest": "hall",
+               "rests_of": "hall"},
+    "firm": {"is_line": "hall standing thing", "waterline": "hall standing", "firm_of": "hall standing"},
+    "ways": {"come_to": "hall standing", "rests_come_to": "hall standing", "least_turns": "hall standing other",
+             "most_shown": "hall standing person"},
+    "waycheck": {"shows_never": "hall standing person number thing"},
+}
+
+
+class InterfaceTest(unittest.TestCase):
+    def test_functions(self):
+        for file, functions in FUNCTIONS.items():
+            module = importlib.import_module("lesserhall." + file)
+            tree = ast.parse((FOLDER / (file + ".py")).read_text("ascii"))
+            defined = {part.name for part in tree.body if isinstance(part, ast.FunctionDef)}
+            for name, arguments in functions.items():
+                with self.subTest(file=file, name=name):
+                    self.assertIn(name, defined)
+                    parameters = inspect.signature(getattr(module, name)).parameters
+                    self.assertEqual(list(parameters), arguments.split())
+                    for parameter in parameters.values():
+                        self.assertEqual(parameter.kind, inspect.Parameter.POSITIONAL_OR_KEYWORD)
+                        self.assertIs(parameter.default, inspect.Parameter.empty)
+
+    def test_hall(self):
+        from lesserhall.halls import Hall
+        for name, arguments in (("rules", ""), ("rule", "person"), ("sees", "person"), ("seers", "person")):
+            self.assertIn(name, vars(Hall))
+            self.assertEqual(list(inspect.signature(vars(Hall)[name]).parameters)[1:], arguments.split())
+
+
+if __name__ == "__main__":
+    unittest.main()
