@@ -122,7 +122,7 @@ def towers_above(hall, tower):
     """The sound towers with one level more, but those that surely lead to no rest."""
     levels = next_levels(hall, tower)
     higher = []
-    for number in sorted(set([number for number, person in levels])):
+    for number in sorted(set([told for told, person in levels])):
         for persons in parts_of(at_number(levels, number)):
             higher.append([*tower, (number, persons)])
     return [one for one in higher if may_fill(hall, one)]

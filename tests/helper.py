@@ -164,3 +164,22 @@ def deep(made, depth):
     for _ in range(depth - 1):
         thing = made((thing,))
     return thing
+
+
+def some_webs(seed, times, persons=12):
+    """So many triples (chance, hall, standing) of halls without rounds, somebody in which may see itself."""
+    chance = random.Random(seed)
+    for _ in range(times):
+        many = chance.randint(1, persons)
+        order = chance.sample(range(many), many)
+        rules = [None] * many
+        for at, person in enumerate(order):
+            may_see = order[:at] + [person] * chance.randint(0, 1)
+            seen = tuple(sorted(chance.sample(may_see, chance.randint(0, len(may_see)))))
+            ties = tuple((other, chance.randint(1, chance.choice((1, 3, 99)))) for other in seen)
+            own = chance.randint(0, chance.choice((0, 0, 3, 999)))
+            rules[person] = chance.choice((
+                ("held", own), ("sum", own, ties), ("sum", 0, ties), ("cap", own, ties, chance.randint(0, 20)),
+                ("kinds", own, seen), ("next", seen), ("free", seen)))
+        most = chance.choice((2, 12, 300, 10 ** 6))
+        yield chance, Hall(rules), tuple(chance.randint(0, most) for _ in range(many))

@@ -20,6 +20,11 @@ FUNCTIONS = {
     "ways": {"come_to": "hall standing", "rests_come_to": "hall standing", "least_turns": "hall standing other",
              "most_shown": "hall standing person"},
     "waycheck": {"shows_never": "hall standing person number thing"},
+    "webs": {"round_in": "hall", "shows_round": "hall thing", "seen_first": "hall", "late_of": "hall"},
+    "sweeps": {"stops_of": "hall standing person", "swept": "hall standing", "rests_on": "hall"},
+    "rows": {"row_hall": "many", "row_stops": "rest", "is_row_rest": "thing", "row_swept": "standing",
+             "row_counts": "many", "row_rest": "many number", "row_number": "rest", "brackets_of": "rest",
+             "rest_of": "text", "row_falls": "standing"},
 }
 
 
