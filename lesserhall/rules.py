@@ -60,6 +60,23 @@ def seen_by(rule):
     return list(rule[1])
 
 
+def ties_of(rule):
+    """The rising list of pairs of each person that a rule sees and its weight, 1 where the rule has no weights."""
+    if rule[0] in ("sum", "cap"):
+        return list(rule[2])
+    return [(person, 1) for person in seen_by(rule)]
+
+
+def tied_so(rule, ties):
+    """The rule that is like that one but sees the persons of these ties, at their weights where it has any."""
+    word = rule[0]
+    if word == "held":
+        return rule
+    if word in ("sum", "cap"):
+        return (*rule[:2], tuple(ties), *rule[3:])
+    return (*rule[:-1], tuple([person for person, weight in ties]))
+
+
 def told_of(rule, lot):
     """The number that a rule tells of a lot of those it sees."""
     word = rule[0]
