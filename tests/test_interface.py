@@ -32,6 +32,16 @@ FUNCTIONS = {
               "told_small": "standing lists", "told_wide": "standing lists"},
     "over": {"scaled": "hall times", "called": "hall order", "beside": "one other", "held_at": "hall person number",
              "tied": "hall person other weight"},
+    "texts": {"hall_text": "hall", "hall_in": "text"},
+    "desk": {"answers": "text"},
+}
+CLASSES = {
+    ("halls", "Hall"): {"__init__": "rules", "rules": "", "rule": "person", "sees": "person", "seers": "person",
+                        "__len__": "", "__eq__": "other", "__repr__": ""},
+    ("house", "House"): {"__init__": "hall standing", "turn": "persons", "beat": "many=1", "rest": "",
+                         "show": "person number", "hold": "person", "loose": "person", "rule": "person rule", "undo": "",
+                         "do": "deeds *whole=True", "hall": "", "standing": "", "held": "", "turns": "", "firm": "",
+                         "line": "", "deeds": "", "log": "", "twin": "", "__len__": "", "__eq__": "other"},
 }
 
 
@@ -58,11 +68,15 @@ class InterfaceTest(unittest.TestCase):
                     self.assertIn(name, defined)
                     self.assertEqual(arguments_of(getattr(module, name)), arguments)
 
-    def test_hall(self):
-        from lesserhall.halls import Hall
-        for name, arguments in (("rules", ""), ("rule", "person"), ("sees", "person"), ("seers", "person")):
-            self.assertIn(name, vars(Hall))
-            self.assertEqual(list(inspect.signature(vars(Hall)[name]).parameters)[1:], arguments.split())
+    def test_classes(self):
+        for (file, name), methods in CLASSES.items():
+            made = getattr(importlib.import_module("lesserhall." + file), name)
+            self.assertEqual(made.__module__, "lesserhall." + file)
+            for method, arguments in methods.items():
+                with self.subTest(name=name, method=method):
+                    # In the body of the class itself: not only in one above it.
+                    self.assertIn(method, vars(made))
+                    self.assertEqual(arguments_of(vars(made)[method]), f"self {arguments}".strip())
 
 
 if __name__ == "__main__":
